@@ -1,0 +1,1 @@
+"""Heights read along ties, when some of the readings can be wrong."""

@@ -1,0 +1,249 @@
+"""Promises [1] to [3]: kinds of values, how functions are called, limits."""
+
+import copy
+import importlib
+import inspect
+import itertools
+import unittest
+
+from levelties import deciding, readings
+from levelties.deciding import alike_errors, classes, hidden, least_cut, least_cuts, needed, seen, told
+from levelties.errors import InvalidNet, InvalidReadings, InvalidText, NoPost, NoTie
+from levelties.nets import Net
+from levelties.readings import agree, failing, heights, read, rings
+from tests.helpers import (BARBELL, DOUBLED, FULL, LARGEST, NAMED, ONE, PAIR, ROW, SQUARE, TRIPLE, all_tuples,
+                           any_values)
+
+# The interface as far as it is written: functions by module, with their parameters.
+FUNCTIONS = {
+    "readings": {"read": "net, heights", "agree": "net, readings", "heights": "net, readings, first=0",
+                 "rings": "net", "failing": "net, readings"},
+    "deciding": {"least_cut": "net", "least_cuts": "net", "seen": "net", "told": "net", "hidden": "net, k",
+                 "alike_errors": "net, k", "needed": "net", "classes": "net, k"},
+}
+METHODS = {"without": "self, at", "further": "self, ties", "across": "self, lot", "ties_at": "self, post",
+           "joined": "self, q, ties", "__init__": "self, posts, ties=()"}
+ERRORS = ["LevelError", "InvalidNet", "InvalidText", "InvalidReadings", "InvalidGroups", "InvalidCommand", "Refused",
+          "NoTie", "NoPost"]
+
+# Calls with all parameters by name, the sequences among them as lists.
+CALLS = [
+    (Net, {"posts": 4, "ties": [(0, 1), (1, 2), (2, 3), (3, 0), (0, 2)]}),
+    (Net.read, {"text": str(SQUARE)}),
+    (SQUARE.without, {"at": 2}),
+    (SQUARE.further, {"ties": [(1, 3), (3, 0)]}),
+    (SQUARE.across, {"lot": [2, 0]}),
+    (SQUARE.ties_at, {"post": 2}),
+    (SQUARE.joined, {"q": FULL, "ties": [(0, 1), (3, 3)]}),
+    (read, {"net": SQUARE, "heights": [3, 5, 4, 9]}),
+    (agree, {"net": SQUARE, "readings": [2, -1, 5, -6, 8]}),
+    (agree, {"net": SQUARE, "readings": [2, -1, 5, -6, 1]}),
+    (heights, {"net": SQUARE, "readings": [2, -1, 5, -6, 1], "first": 3}),
+    (heights, {"net": SQUARE, "readings": [2, -1, 5, -6, 8], "first": 3}),
+    (rings, {"net": SQUARE}),
+    (failing, {"net": SQUARE, "readings": [2, -1, 5, -6, 8]}),
+    (least_cut, {"net": SQUARE}),
+    (least_cuts, {"net": SQUARE}),
+    (seen, {"net": SQUARE}),
+    (told, {"net": SQUARE}),
+    (hidden, {"net": SQUARE, "k": 2}),
+    (alike_errors, {"net": SQUARE, "k": 1}),
+    (needed, {"net": SQUARE}),
+    (classes, {"net": SQUARE, "k": 1}),
+]
+
+# Calls that raise, in the order in which the document lists the errors of each.
+FAULTS = [
+    (Net, {"posts": None, "ties": 3}, InvalidNet, "word", "posts"),
+    (Net, {"posts": 3, "ties": [(0, 0)]}, InvalidNet, "word", "ties"),
+    (Net, {"posts": 3, "ties": [(0, 1)]}, InvalidNet, "word", "joined"),
+    (Net.read, {"text": "posts 0\ntie 0 0\ntie"}, InvalidText, "at", 2),
+    (Net.read, {"text": "posts 0\ntie 0 0"}, InvalidNet, "word", "posts"),
+    (ROW.without, {"at": 3}, NoTie, "at", 3),
+    (ROW.without, {"at": 1}, InvalidNet, "word", "joined"),
+    (ROW.further, {"ties": [(0, 4)]}, InvalidNet, "word", "ties"),
+    (ROW.ties_at, {"post": 4}, NoPost, "at", 4),
+    (ROW.joined, {"q": PAIR, "ties": [(0, 2)]}, InvalidNet, "word", "ties"),
+    (ROW.joined, {"q": PAIR, "ties": []}, InvalidNet, "word", "joined"),
+    (agree, {"net": ROW, "readings": (1, None)}, InvalidReadings, "at", 0),
+    (heights, {"net": ROW, "readings": (1, 2, None), "first": 3}, InvalidReadings, "at", 2),
+    (failing, {"net": ROW, "readings": (1, False, None)}, InvalidReadings, "at", 1),
+]
+
+
+def frozen(arguments):
+    """The same arguments with tuples for lists."""
+    return {name: tuple(value) if isinstance(value, list) else value for name, value in arguments.items()}
+
+
+class InterfaceTest(unittest.TestCase):
+
+    def test_functions(self):
+        for name, functions in FUNCTIONS.items():
+            module = importlib.import_module(f"levelties.{name}")
+            for word, parameters in functions.items():
+                function = getattr(module, word)
+                self.assertEqual(function.__module__, f"levelties.{name}")
+                self.assertEqual(str(inspect.signature(function)), f"({parameters})")
+
+    def test_net(self):
+        self.assertEqual(Net.__module__, "levelties.nets")
+        for name, parameters in METHODS.items():
+            self.assertEqual(str(inspect.signature(vars(Net)[name])), f"({parameters})")
+        self.assertIsInstance(vars(Net)["read"], classmethod)
+        self.assertEqual(str(inspect.signature(Net.read)), "(text)")
+        for name in ("__len__", "__eq__", "__str__", "__getitem__"):
+            self.assertIn(name, vars(Net))
+
+    def test_errors(self):
+        module = importlib.import_module("levelties.errors")
+        for name in ERRORS:
+            self.assertEqual(getattr(module, name).__module__, "levelties.errors")
+
+    def test_package_is_empty(self):
+        package = importlib.import_module("levelties")
+        self.assertTrue(package.__doc__)
+        with open(package.__file__, encoding="utf-8") as source:
+            self.assertEqual(source.read().strip(), f'"""{package.__doc__}"""')
+
+
+class CallTest(unittest.TestCase):
+
+    def test_by_position_and_by_name_in_any_order(self):
+        for function, arguments in CALLS:
+            wanted = function(*arguments.values())
+            for order in itertools.permutations(arguments):
+                self.assertEqual(function(**{name: arguments[name] for name in order}), wanted)
+
+    def test_errors_come_in_order(self):
+        for function, arguments, kind, name, kept in FAULTS:
+            for order in itertools.permutations(arguments):
+                with self.assertRaises(kind) as caught:
+                    function(**{name: arguments[name] for name in order})
+                self.assertIs(type(caught.exception), kind)
+                self.assertEqual(getattr(caught.exception, name), kept)
+
+    def test_lists_and_tuples(self):
+        for function, arguments in CALLS:
+            self.assertEqual(function(**frozen(arguments)), function(**arguments))
+
+    def test_arguments_are_not_changed(self):
+        for function, arguments in CALLS:
+            texts = {name: str(value) for name, value in arguments.items()}
+            before = {name: copy.deepcopy(value) for name, value in arguments.items() if isinstance(value, list)}
+            function(**arguments)
+            self.assertEqual({name: str(value) for name, value in arguments.items()}, texts)
+            self.assertEqual({name: arguments[name] for name in before}, before)
+
+    def test_refused_arguments_are_not_changed(self):
+        for value in any_values():
+            text = repr(value)
+            for use in (lambda: Net(3, value), lambda: ROW.further(value), lambda: ROW.joined(ROW, value),
+                        lambda: agree(ROW, value), lambda: failing(ROW, value), lambda: heights(ROW, value)):
+                try:
+                    use()
+                except (InvalidNet, InvalidReadings):
+                    pass
+            self.assertEqual(repr(value), text)
+        self.assertEqual(str(ROW), "posts 4\ntie 0 1\ntie 1 2\ntie 2 3")
+
+    def test_later_changes_have_no_effect(self):
+        for function, arguments in CALLS:
+            passed = {name: list(value) if isinstance(value, list) else value for name, value in arguments.items()}
+            result = function(**passed)
+            text = str(result)
+            for value in passed.values():
+                if isinstance(value, list):
+                    value.reverse()
+                    value.append((9, 9))
+                    del value[0]
+            self.assertEqual(str(result), text)
+            self.assertEqual(function(**arguments), result)
+
+    def test_same_call_again(self):
+        first = [function(**arguments) for function, arguments in CALLS]
+        for function, arguments, kind, _, _ in FAULTS:
+            with self.assertRaises(kind):
+                function(**arguments)
+        backwards = [function(**arguments) for function, arguments in reversed(CALLS)]
+        again = [function(**arguments) for function, arguments in CALLS]
+        self.assertEqual(again, first)
+        self.assertEqual(backwards, first[::-1])
+
+    def test_equal_nets_get_equal_results(self):
+        for net in NAMED:
+            other = Net.read(str(net))
+            for function in (rings, least_cut, least_cuts, seen, told, needed):
+                self.assertEqual(function(other), function(net))
+            for k in range(4):
+                self.assertEqual(classes(other, k), classes(net, k))
+                self.assertEqual(hidden(other, k), hidden(net, k))
+                self.assertEqual(alike_errors(other, k), alike_errors(net, k))
+
+
+class ResultTest(unittest.TestCase):
+
+    def test_sequences_are_tuples(self):
+        for function, arguments in CALLS:
+            result = function(**arguments)
+            self.assertTrue(all_tuples(result.ties if isinstance(result, Net) else result), function)
+
+    def test_whether_is_a_bool(self):
+        self.assertIs(agree(ONE, []), True)
+        self.assertIs(agree(PAIR, [3]), True)
+        self.assertIs(agree(TRIPLE, [3, 3, 3]), False)
+        self.assertIs(SQUARE == FULL, False)
+        self.assertIs(SQUARE == Net(4, SQUARE.ties), True)
+
+    def test_kinds_of_numbers(self):
+        for net in NAMED[1:]:
+            for number in (least_cut(net), seen(net), told(net), len(net), *heights(net, [0] * len(net))):
+                self.assertIs(type(number), int)
+
+
+class LimitTest(unittest.TestCase):
+
+    def test_largest_net(self):
+        self.assertEqual((LARGEST.posts, len(LARGEST)), (6, 10))
+        self.assertEqual((least_cut(LARGEST), seen(LARGEST), told(LARGEST)), (3, 2, 1))
+        self.assertTrue(agree(LARGEST, read(LARGEST, [999999999, -999999999, 0, 5, 999999999, -1])))
+
+    def test_greatest_k(self):
+        for net in (BARBELL, LARGEST, DOUBLED):
+            for k in (10, 11, 100):
+                self.assertIsNotNone(hidden(net, k))
+                self.assertIsNotNone(alike_errors(net, k))
+                self.assertEqual(classes(net, k), tuple((post,) for post in range(net.posts)))
+
+    def test_long_integers(self):
+        right = (999999999, -1999999998)
+        self.assertEqual(heights(Net(3, [(0, 1), (1, 2)]), right, 999999999), (999999999, 1999999998, 0))
+        self.assertEqual(failing(TRIPLE, (999999999, -999999999, 999999998)), ((0, 2), (1, 2)))
+
+    def test_longest_text(self):
+        text = "\n".join(["posts 2"] + ["tie 0 1"] * 124)
+        self.assertEqual(len(text), 999)
+        self.assertEqual(seen(Net.read(text)), 123)
+
+    def test_what_is_returned_may_be_passed_on(self):
+        readings_so_far = read(SQUARE, [999999999, -999999999, 999999999, -999999999])
+        for _ in range(7):
+            first, second = alike_errors(SQUARE, 1)
+            found = [x + y - z for x, y, z in zip(readings_so_far, hidden(SQUARE, 2), first)]
+            self.assertEqual(agree(SQUARE, found), agree(SQUARE, [-error for error in first]))
+            readings_so_far = read(SQUARE, heights(SQUARE, read(SQUARE, heights(SQUARE, readings_so_far, 10 ** 9))))
+            readings_so_far = tuple(2 * reading for reading in readings_so_far)
+            self.assertTrue(agree(SQUARE, readings_so_far))
+            self.assertEqual(failing(SQUARE, [x + y for x, y in zip(readings_so_far, first)]) == (),
+                             failing(SQUARE, [x + y for x, y in zip(readings_so_far, second)]) == ())
+        net = PAIR
+        for _ in range(7):
+            net = net.joined(net, [net[0]])
+        self.assertEqual((net.posts, len(rings(net)), seen(net)), (256, 0, 0))
+        self.assertEqual(net.ties_at(net.posts - 1), (net.across([255])))
+        for lot in least_cuts(SQUARE):
+            self.assertEqual(len(SQUARE.across(lot)), 2)
+
+
+if __name__ == "__main__":
+    unittest.main()
