@@ -8,9 +8,22 @@ from levelties.flows import lot_apart, lots_apart, steps
 from levelties.readings import read
 
 
+def least_lot(net):
+    """Some lot with post 0, not all posts, with as few ties across as can be, or None for one post."""
+    table = steps(net.posts, net.ties)
+    best = None
+    need = len(net) + 1
+    for goal in range(1, net.posts):
+        lot = lot_apart(table, [0], goal, need)
+        if lot is not None:
+            best = lot
+            need = len(net.across(lot))
+    return best
+
+
 def least_cut(net):
     """The least number of ties across a lot that is neither empty nor all posts, or None for one post."""
-    lot = _least_lot(net)
+    lot = least_lot(net)
     return None if lot is None else len(net.across(lot))
 
 
@@ -39,7 +52,7 @@ def told(net):
 
 def hidden(net, k):
     """Some hidden errors with at most k that are not 0, or None if there are none."""
-    lot = _least_lot(net)
+    lot = least_lot(net)
     if lot is None or len(net.across(lot)) > k:
         return None
     return read(net, [0 if post in lot else 1 for post in range(net.posts)])
@@ -70,19 +83,6 @@ def needed(net):
 def classes(net, k):
     """The ascending tuple of the lots of posts whose differences are sure with up to k wrong readings."""
     return _held_lots(net, 2 * k + 1)
-
-
-def _least_lot(net):
-    """Some lot with post 0, not all posts, with as few ties across as can be, or None for one post."""
-    table = steps(net.posts, net.ties)
-    best = None
-    need = len(net) + 1
-    for goal in range(1, net.posts):
-        lot = lot_apart(table, [0], goal, need)
-        if lot is not None:
-            best = lot
-            need = len(net.across(lot))
-    return best
 
 
 def _held_lots(net, need):

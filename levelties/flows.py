@@ -5,30 +5,68 @@ to 1 if it is gone from a to b, to -1 if from b to a (ties with 0 or not in it a
 """
 
 
-def steps(posts, ties):
-    """For each post the list of steps from it: (tie, post at its other end, 1 or -1 as in a flow)."""
+def steps(posts, ties, gone=()):
+    """For each post the list of steps from it: (tie, post at its other end, 1 or -1 as in a flow).
+
+    There are none along the ties whose numbers are gone.
+    """
     table = [[] for _ in range(posts)]
     for at, (a, b) in enumerate(ties):
-        table[a].append((at, b, 1))
-        table[b].append((at, a, -1))
+        if at not in gone:
+            table[a].append((at, b, 1))
+            table[b].append((at, a, -1))
     return table
 
 
 def reach(table, flow, starts):
-    """A dict of the posts to which more can still flow from the starts.
+    """A dict of the posts to which more can still flow from the starts, on ways as short as can be.
 
     Each is a key behind the one that it is reached from, with the step that leads to it:
     (post ahead of it, tie, 1 or -1), or None for a start.
     """
     came = {start: None for start in starts}
-    waiting = list(starts)
-    while waiting:
-        post = waiting.pop()
+    layer = starts
+    while layer:
+        layer = _next_layer(table, flow, layer, came)
+    return came
+
+
+def _next_layer(table, flow, layer, came):
+    """The posts that come next: one step from the layer, and not yet among those that came, to which they are added."""
+    found = []
+    for post in layer:
         for at, other, way in table[post]:
             if other not in came and flow.get(at, 0) != way:
                 came[other] = (post, at, way)
-                waiting.append(other)
+                found.append(other)
+    return found
+
+
+def spread(table):
+    """All posts, as reach has them: from the first one, and again from each that was not reached yet."""
+    came = {}
+    for post in range(len(table)):
+        if post not in came:
+            came.update(reach(table, {}, [post]))
     return came
+
+
+def first_joined(table):
+    """For each post the first one to which the steps join it."""
+    found = {}
+    for post, step in spread(table).items():
+        found[post] = post if step is None else found[step[0]]
+    return [found[post] for post in range(len(table))]
+
+
+def trail(came, goal):
+    """The steps that lead to the goal, as reach has them, from the last one back to the first."""
+    found = []
+    step = came[goal]
+    while step is not None:
+        found.append(step)
+        step = came[step[0]]
+    return found
 
 
 def contrary(flow):
@@ -44,12 +82,9 @@ def send(table, starts, goal, most):
         came = reach(table, flow, starts)
         if goal not in came:
             break
-        step = came[goal]
-        while step is not None:
-            post, at, way = step
+        for _, at, way in trail(came, goal):
             # Against what flows there already, this sets the tie free.
             flow[at] = flow.get(at, 0) + way
-            step = came[post]
         sent += 1
     return flow, sent
 

@@ -1,7 +1,7 @@
 """Readings of a net's ties, and the rings by which they can be checked."""
 
 from levelties.errors import InvalidReadings
-from levelties.flows import reach, steps
+from levelties.flows import spread, steps
 from levelties.nets import is_integer, is_sequence
 
 
@@ -27,18 +27,36 @@ def agree(net, readings):
 def heights(net, readings, first=0):
     """The heights for which all readings are right, with this one of post 0, or None."""
     check_readings(net, readings)
-    found = _heights_along(net, readings, first)
-    return found if read(net, found) == tuple(readings) else None
+    places = places_along(spread(steps(net.posts, net.ties)), readings)
+    if wrong_ties(net.ties, readings, places):
+        return None
+    return tuple([first + level for _, level in places])
 
 
-def _heights_along(net, readings, first):
-    """The heights by the readings along some ways from post 0, whatever the other readings say."""
-    found = [first] * net.posts
-    for post, step in reach(steps(net.posts, net.ties), {}, [0]).items():
-        if step is not None:
+def places_along(came, readings):
+    """For each post its place: the start from which it was reached, and how much it is higher than that.
+
+    This is by the readings along the steps with which the posts came (as spread has them), whatever others say.
+    """
+    found = {}
+    for post, step in came.items():
+        if step is None:
+            found[post] = (post, 0)
+        else:
             ahead, at, way = step
-            found[post] = found[ahead] + way * readings[at]
-    return tuple(found)
+            start, level = found[ahead]
+            found[post] = (start, level + way * readings[at])
+    return tuple([found[post] for post in range(len(came))])
+
+
+def wrong_ties(ties, readings, places):
+    """The ties between places with unlike starts, or with another difference than was read."""
+    found = []
+    for at, (a, b) in enumerate(ties):
+        (start, low), (other, high) = places[a], places[b]
+        if start != other or high - low != readings[at]:
+            found.append(at)
+    return found
 
 
 def rings(net):

@@ -5,6 +5,7 @@ import random
 
 from levelties.errors import InvalidNet, LevelError, NoTie
 from levelties.nets import Net
+from levelties.readings import read
 
 ONE = Net(1)
 PAIR = Net(2, [(0, 1)])
@@ -62,6 +63,19 @@ def any_values():
 def is_number_of(value, many):
     """Whether any value is a number below `many`."""
     return type(value) is int and 0 <= value < many
+
+
+def wrong_sequences(is_right):
+    """Triples of a net, a value that is no sequence of a right thing for each tie, and the number of what is wrong."""
+    found = [(ROW, "123", 0), (ROW, {0: 1, 1: 2, 2: 3}, 0), (ROW, (1, "2"), 0), (ROW, [1, 2, 3, None], 0)]
+    for value in any_values():
+        for net in (ROW, ONE):
+            if type(value) not in (list, tuple) or len(value) != len(net):
+                found.append((net, value, 0))
+        if not is_right(value):
+            found.extend([(PAIR, [value], 0), (ROW, (value, value, 1), 0), (ROW, (1, value, value), 1),
+                          (TRIPLE, [0, 999999999, value], 2)])
+    return found
 
 
 def places(net, gone=()):
@@ -123,6 +137,37 @@ def solve(net, readings):
                 known.setdefault(a, known[b] - reading)
     right = all(known[b] - known[a] == reading for (a, b), reading in zip(net.ties, readings))
     return tuple(known[post] for post in range(net.posts)) if right else None
+
+
+def clumps(net, readings, gone=()):
+    """For each post the least post to which ties that are not gone join it, and its height above that.
+
+    None if their readings are not right for any heights. Found without the package: tie by tie.
+    """
+    place = [(post, 0) for post in range(net.posts)]
+    for at, (a, b) in enumerate(net.ties):
+        if at in gone:
+            continue
+        (first, low), (other, high) = place[a], place[b]
+        if first != other:
+            up = low + readings[at] - high
+            place = [(first, level + up) if clump == other else (clump, level) for clump, level in place]
+        elif high - low != readings[at]:
+            return None
+    return place
+
+
+def all_sets(net, most=10):
+    """All ascending tuples of at most so many unlike ties, the shorter ones first."""
+    return [ties for many in range(min(most, len(net)) + 1) for ties in itertools.combinations(range(len(net)), many)]
+
+
+def wrong_readings(net, source, many):
+    """Readings of small heights of which about so many are wrong, mostly by little."""
+    found = list(read(net, [source.randint(-3, 3) for _ in range(net.posts)]))
+    for _ in range(many if net.ties else 0):
+        found[source.randrange(len(net))] += source.choice((-2, -1, 1, 1, 2, 7))
+    return tuple(found)
 
 
 def all_tuples(value):

@@ -6,11 +6,14 @@ import inspect
 import itertools
 import unittest
 
-from levelties import deciding, readings
 from levelties.deciding import alike_errors, classes, hidden, least_cut, least_cuts, needed, seen, told
-from levelties.errors import InvalidNet, InvalidReadings, InvalidText, NoPost, NoTie
+from levelties.errors import InvalidGroups, InvalidNet, InvalidReadings, InvalidText, NoPost, NoTie
+from levelties.explaining import differences, fewest_wrong, is_set, sets, span, surely
+from levelties.groups import seen_groups, told_groups, weak_lot
 from levelties.nets import Net
+from levelties.papers import cut_between, paper, paper_holds, ways
 from levelties.readings import agree, failing, heights, read, rings
+from levelties.sinking import amounts, sinks
 from tests.helpers import (BARBELL, DOUBLED, FULL, LARGEST, NAMED, ONE, PAIR, ROW, SQUARE, TRIPLE, all_tuples,
                            any_values)
 
@@ -20,6 +23,12 @@ FUNCTIONS = {
                  "rings": "net", "failing": "net, readings"},
     "deciding": {"least_cut": "net", "least_cuts": "net", "seen": "net", "told": "net", "hidden": "net, k",
                  "alike_errors": "net, k", "needed": "net", "classes": "net, k"},
+    "papers": {"ways": "net, a, b", "cut_between": "net, a, b", "paper": "net, k", "paper_holds": "net, k, value"},
+    "explaining": {"is_set": "net, readings, value", "sets": "net, readings", "fewest_wrong": "net, readings",
+                   "surely": "net, readings, k", "differences": "net, readings, k, a, b",
+                   "span": "net, readings, off, a, b"},
+    "groups": {"seen_groups": "net, groups", "told_groups": "net, groups", "weak_lot": "net, groups"},
+    "sinking": {"amounts": "net, readings, post, at", "sinks": "net, readings"},
 }
 METHODS = {"without": "self, at", "further": "self, ties", "across": "self, lot", "ties_at": "self, post",
            "joined": "self, q, ties", "__init__": "self, posts, ties=()"}
@@ -50,6 +59,25 @@ CALLS = [
     (alike_errors, {"net": SQUARE, "k": 1}),
     (needed, {"net": SQUARE}),
     (classes, {"net": SQUARE, "k": 1}),
+    (ways, {"net": SQUARE, "a": 0, "b": 2}),
+    (cut_between, {"net": SQUARE, "a": 1, "b": 2}),
+    (paper, {"net": SQUARE, "k": 1}),
+    (paper, {"net": SQUARE, "k": 2}),
+    (paper_holds, {"net": SQUARE, "k": 0, "value": (((0,),), ((4,),), ((3,),))}),
+    (paper_holds, {"net": SQUARE, "k": 1, "value": (((0,),), ((4,),), ((3,),))}),
+    (is_set, {"net": SQUARE, "readings": [2, -1, 5, -6, 8], "value": (0, 2)}),
+    (is_set, {"net": SQUARE, "readings": [2, -1, 5, -6, 8], "value": (0, 1)}),
+    (sets, {"net": SQUARE, "readings": [2, -1, 5, -6, 8]}),
+    (fewest_wrong, {"net": SQUARE, "readings": [2, -1, 5, -6, 8]}),
+    (surely, {"net": SQUARE, "readings": [2, -1, 5, -6, 8], "k": 1}),
+    (differences, {"net": SQUARE, "readings": [2, -1, 5, -6, 8], "k": 2, "a": 0, "b": 2}),
+    (differences, {"net": SQUARE, "readings": [2, -1, 5, -6, 8], "k": 3, "a": 0, "b": 1}),
+    (span, {"net": SQUARE, "readings": [2, -1, 5, -6, 8], "off": 3, "a": 0, "b": 2}),
+    (seen_groups, {"net": FULL, "groups": [0, 0, 1, 1, 2, 2]}),
+    (told_groups, {"net": FULL, "groups": [5, 4, 3, 2, 1, 0]}),
+    (weak_lot, {"net": FULL, "groups": [0, 0, 1, 1, 2, 2]}),
+    (amounts, {"net": SQUARE, "readings": [2, -1, 5, -3, 1], "post": 3, "at": 3}),
+    (sinks, {"net": SQUARE, "readings": [2, -1, 5, -3, 1]}),
 ]
 
 # Calls that raise, in the order in which the document lists the errors of each.
@@ -68,6 +96,17 @@ FAULTS = [
     (agree, {"net": ROW, "readings": (1, None)}, InvalidReadings, "at", 0),
     (heights, {"net": ROW, "readings": (1, 2, None), "first": 3}, InvalidReadings, "at", 2),
     (failing, {"net": ROW, "readings": (1, False, None)}, InvalidReadings, "at", 1),
+    (is_set, {"net": ROW, "readings": (1, 2, None), "value": None}, InvalidReadings, "at", 2),
+    (sets, {"net": ROW, "readings": None}, InvalidReadings, "at", 0),
+    (fewest_wrong, {"net": ROW, "readings": (1, "2", None)}, InvalidReadings, "at", 1),
+    (surely, {"net": ROW, "readings": [1, 2], "k": 1}, InvalidReadings, "at", 0),
+    (differences, {"net": ROW, "readings": (1, True, 2), "k": 1, "a": 0, "b": 0}, InvalidReadings, "at", 1),
+    (span, {"net": ROW, "readings": "123", "off": 1, "a": 0, "b": 1}, InvalidReadings, "at", 0),
+    (seen_groups, {"net": ROW, "groups": (0, -1, None)}, InvalidGroups, "at", 1),
+    (told_groups, {"net": ROW, "groups": [0, 1, True]}, InvalidGroups, "at", 2),
+    (weak_lot, {"net": ONE, "groups": (0,)}, InvalidGroups, "at", 0),
+    (amounts, {"net": ROW, "readings": (None, 1, 2), "post": 1, "at": 0}, InvalidReadings, "at", 0),
+    (sinks, {"net": ROW, "readings": ((1,), 1, 2)}, InvalidReadings, "at", 0),
 ]
 
 
@@ -139,10 +178,13 @@ class CallTest(unittest.TestCase):
         for value in any_values():
             text = repr(value)
             for use in (lambda: Net(3, value), lambda: ROW.further(value), lambda: ROW.joined(ROW, value),
-                        lambda: agree(ROW, value), lambda: failing(ROW, value), lambda: heights(ROW, value)):
+                        lambda: agree(ROW, value), lambda: failing(ROW, value), lambda: heights(ROW, value),
+                        lambda: sets(ROW, value), lambda: span(ROW, value, 1, 0, 1), lambda: sinks(ROW, value),
+                        lambda: seen_groups(ROW, value), lambda: weak_lot(ROW, value),
+                        lambda: paper_holds(ROW, 0, value), lambda: is_set(ROW, (1, 2, 3), value)):
                 try:
                     use()
-                except (InvalidNet, InvalidReadings):
+                except (InvalidNet, InvalidReadings, InvalidGroups):
                     pass
             self.assertEqual(repr(value), text)
         self.assertEqual(str(ROW), "posts 4\ntie 0 1\ntie 1 2\ntie 2 3")
@@ -194,10 +236,17 @@ class ResultTest(unittest.TestCase):
         self.assertIs(agree(TRIPLE, [3, 3, 3]), False)
         self.assertIs(SQUARE == FULL, False)
         self.assertIs(SQUARE == Net(4, SQUARE.ties), True)
+        for value in any_values():
+            self.assertIn(paper_holds(ONE, 0, value), (True, False))
+            self.assertIs(type(paper_holds(ONE, 0, value)), bool)
+            self.assertIs(type(is_set(ROW, (1, 2, 3), value)), bool)
 
     def test_kinds_of_numbers(self):
         for net in NAMED[1:]:
-            for number in (least_cut(net), seen(net), told(net), len(net), *heights(net, [0] * len(net))):
+            groups = list(range(len(net)))
+            for number in (least_cut(net), seen(net), told(net), len(net), *heights(net, [0] * len(net)),
+                           fewest_wrong(net, groups), seen_groups(net, groups), told_groups(net, groups),
+                           *span(net, groups, 99, 0, 1)):
                 self.assertIs(type(number), int)
 
 
@@ -210,7 +259,11 @@ class LimitTest(unittest.TestCase):
 
     def test_greatest_k(self):
         for net in (BARBELL, LARGEST, DOUBLED):
+            readings_so_far = [999999999 - 7 * at * at for at in range(len(net))]
             for k in (10, 11, 100):
+                self.assertEqual(surely(net, readings_so_far, k), ((), ()))
+                self.assertIsNone(differences(net, readings_so_far, k, 0, 1))
+                self.assertIsNone(paper(net, k))
                 self.assertIsNotNone(hidden(net, k))
                 self.assertIsNotNone(alike_errors(net, k))
                 self.assertEqual(classes(net, k), tuple((post,) for post in range(net.posts)))

@@ -7,7 +7,7 @@ from levelties.errors import InvalidReadings
 from levelties.nets import Net
 from levelties.readings import agree, failing, heights, read, rings
 from tests.helpers import (BARBELL, DOUBLED, FULL, LARGEST, NAMED, ONE, PAIR, ROW, SQUARE, TRIPLE, all_errors,
-                           all_rings, any_values, some_nets, solve)
+                           all_rings, some_nets, solve, wrong_sequences)
 
 GOOD = (2, -1, 5, -6, 1)
 BAD = (2, -1, 5, -6, 8)
@@ -131,31 +131,13 @@ def ring_agrees(net, readings, ring):
 
 class WrongReadingsTest(unittest.TestCase):
 
-    def refuse(self, at, net, readings):
-        for use in (agree, heights, failing):
-            with self.assertRaises(InvalidReadings) as caught:
-                use(net, readings)
-            self.assertEqual(caught.exception.at, at, readings)
-
-    def test_no_sequence_of_so_many(self):
-        for value in any_values():
-            if type(value) not in (list, tuple) or len(value) != 3:
-                self.refuse(0, ROW, value)
-            if type(value) not in (list, tuple) or len(value) != 0:
-                self.refuse(0, ONE, value)
-        self.refuse(0, ROW, "123")
-        self.refuse(0, ROW, {0: 1, 1: 2, 2: 3})
-        self.refuse(0, ROW, (1, "2"))
-        self.refuse(0, ROW, [1, 2, 3, None])
-
-    def test_no_integers(self):
-        for value in any_values():
-            if type(value) is not int:
-                self.refuse(0, PAIR, [value])
-                self.refuse(0, ROW, (value, value, 1))
-                self.refuse(1, ROW, (1, value, value))
-                self.refuse(2, ROW, [0, 0, value])
-        self.refuse(2, SQUARE, (2, -1, True, 4, None))
+    def test_wrong_readings(self):
+        cases = wrong_sequences(lambda value: type(value) is int)
+        for net, value, at in cases + [(SQUARE, (2, -1, True, 4, None), 2)]:
+            for use in (agree, heights, failing):
+                with self.assertRaises(InvalidReadings) as caught:
+                    use(net, value)
+                self.assertEqual(caught.exception.at, at, value)
 
 
 if __name__ == "__main__":
