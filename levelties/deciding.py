@@ -76,16 +76,16 @@ def needed(net):
     if least is None:
         return ()
     # These are the ties across the lots that have fewest: no lot with more ties parts their posts.
-    place = {post: at for at, lot in enumerate(_held_lots(net, least + 1)) for post in lot}
+    place = {post: at for at, lot in enumerate(held_lots(net, least + 1)) for post in lot}
     return tuple([at for at, (a, b) in enumerate(net.ties) if place[a] != place[b]])
 
 
 def classes(net, k):
     """The ascending tuple of the lots of posts whose differences are sure with up to k wrong readings."""
-    return _held_lots(net, 2 * k + 1)
+    return held_lots(net, 2 * k + 1)
 
 
-def _held_lots(net, need):
+def held_lots(net, need):
     """The ascending tuple of the lots of posts that are not parted by fewer than `need` ties."""
     table = steps(net.posts, net.ties)
     found = []

@@ -19,9 +19,9 @@ def is_sequence(value):
     return isinstance(value, (list, tuple))
 
 
-def is_short_number(word):
-    """Whether a string is one or two decimal digits without a leading zero."""
-    if len(word) not in (1, 2) or not all([sign in "0123456789" for sign in word]):
+def is_short_number(word, most=2):
+    """Whether a string is some decimal digits, at most `most`, without a leading zero."""
+    if not 1 <= len(word) <= most or not all([sign in "0123456789" for sign in word]):
         return False
     return word == "0" or word[0] != "0"
 

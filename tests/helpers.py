@@ -3,7 +3,9 @@
 import itertools
 import random
 
+from levelties.desk import Desk
 from levelties.errors import InvalidNet, LevelError, NoTie
+from levelties.live import Live
 from levelties.nets import Net
 from levelties.readings import read
 
@@ -51,13 +53,13 @@ def small_nets():
 def any_values():
     """Values of every kind that [1] names, also nested ones."""
     plain = [0, 1, -1, 2, 10, 999999999, -999999999, True, False, None, "", "a", "0", "01", "posts 1",
-             PAIR, ONE, LevelError(), InvalidNet("ties"), NoTie(3)]
+             PAIR, ONE, LevelError(), InvalidNet("ties"), NoTie(3), Live(PAIR), Desk()]
     nested = []
     for _ in range(8):
         nested = [nested]
     return plain + [[], (), (0,), [0], (0, 1), [0, 1], [(0, 1)], ((0, 1),), [[0, 1]], (None,), [True, False],
                     ((0, 1, 2),), [(0, "1")], (0, (1,)), [(0, True)], [(False, 1)], [(0.0 == 0, 1)], nested, (nested,),
-                    [PAIR], (PAIR, PAIR), [(PAIR, 0)]]
+                    [PAIR], (PAIR, PAIR), [(PAIR, 0)], [Live(ONE)], (0, Desk())]
 
 
 def is_number_of(value, many):
@@ -92,6 +94,18 @@ def lots_with_first(net):
     """All lots with post 0 that are not all posts."""
     others = range(1, net.posts)
     return [(0, *more) for many in range(net.posts - 1) for more in itertools.combinations(others, many)]
+
+
+def slow_cut(net):
+    """The least number of ties across a lot, lot by lot."""
+    return min(len(net.across(lot)) for lot in lots_with_first(net))
+
+
+def joined_over(net, ties, times=7):
+    """A net joined with itself over and over, by the same ties."""
+    for _ in range(times):
+        net = net.joined(net, ties)
+    return net
 
 
 def parting(net, k, a, b):

@@ -6,10 +6,15 @@ import inspect
 import itertools
 import unittest
 
+from levelties.comparing import alike, best_ties, no_worse, weaker, worth
 from levelties.deciding import alike_errors, classes, hidden, least_cut, least_cuts, needed, seen, told
-from levelties.errors import InvalidGroups, InvalidNet, InvalidReadings, InvalidText, NoPost, NoTie
+from levelties.desk import Desk
+from levelties.errors import (InvalidCommand, InvalidGroups, InvalidNet, InvalidReadings, InvalidText, NoPost, NoTie,
+                              Refused)
 from levelties.explaining import differences, fewest_wrong, is_set, sets, span, surely
 from levelties.groups import seen_groups, told_groups, weak_lot
+from levelties.live import Live
+from levelties.mending import bound, further
 from levelties.nets import Net
 from levelties.papers import cut_between, paper, paper_holds, ways
 from levelties.readings import agree, failing, heights, read, rings
@@ -17,7 +22,7 @@ from levelties.sinking import amounts, sinks
 from tests.helpers import (BARBELL, DOUBLED, FULL, LARGEST, NAMED, ONE, PAIR, ROW, SQUARE, TRIPLE, all_tuples,
                            any_values)
 
-# The interface as far as it is written: functions by module, with their parameters.
+# The interface: functions by module, with their parameters.
 FUNCTIONS = {
     "readings": {"read": "net, heights", "agree": "net, readings", "heights": "net, readings, first=0",
                  "rings": "net", "failing": "net, readings"},
@@ -29,9 +34,16 @@ FUNCTIONS = {
                    "span": "net, readings, off, a, b"},
     "groups": {"seen_groups": "net, groups", "told_groups": "net, groups", "weak_lot": "net, groups"},
     "sinking": {"amounts": "net, readings, post, at", "sinks": "net, readings"},
+    "mending": {"further": "net, k", "bound": "net, k"},
+    "comparing": {"no_worse": "p, q", "weaker": "p, q", "alike": "p, q", "worth": "net, a, b", "best_ties": "net"},
 }
-METHODS = {"without": "self, at", "further": "self, ties", "across": "self, lot", "ties_at": "self, post",
-           "joined": "self, q, ties", "__init__": "self, posts, ties=()"}
+METHODS = {
+    Net: {"without": "self, at", "further": "self, ties", "across": "self, lot", "ties_at": "self, post",
+          "joined": "self, q, ties", "__init__": "self, posts, ties=()"},
+    Live: {"keep": "self, at, value", "drop": "self, at", "several": "self, pairs", "between": "self, a, b",
+           "undo": "self", "within": "self, work", "__init__": "self, net", "__len__": "self"},
+    Desk: {"say": "self, command", "__init__": "self"},
+}
 ERRORS = ["LevelError", "InvalidNet", "InvalidText", "InvalidReadings", "InvalidGroups", "InvalidCommand", "Refused",
           "NoTie", "NoPost"]
 
@@ -78,6 +90,35 @@ CALLS = [
     (weak_lot, {"net": FULL, "groups": [0, 0, 1, 1, 2, 2]}),
     (amounts, {"net": SQUARE, "readings": [2, -1, 5, -3, 1], "post": 3, "at": 3}),
     (sinks, {"net": SQUARE, "readings": [2, -1, 5, -3, 1]}),
+    (further, {"net": ROW, "k": 2}),
+    (bound, {"net": ROW, "k": 2}),
+    (no_worse, {"p": FULL, "q": SQUARE}),
+    (no_worse, {"p": SQUARE, "q": FULL}),
+    (weaker, {"p": SQUARE, "q": FULL}),
+    (alike, {"p": SQUARE, "q": SQUARE}),
+    (worth, {"net": SQUARE, "a": 3, "b": 1}),
+    (best_ties, {"net": SQUARE}),
+]
+
+# Calls of methods of a live net of SQUARE with LIVE_READINGS, as CALLS.
+LIVE_READINGS = [(0, 2), (1, -1), (2, 5)]
+LIVE_CALLS = [
+    ("keep", {"at": 3, "value": -6}),
+    ("keep", {"at": 4, "value": 8}),
+    ("drop", {"at": 1}),
+    ("several", {"pairs": [(4, 8), (3, -6), (4, 1)]}),
+    ("several", {"pairs": []}),
+    ("between", {"a": 3, "b": 1}),
+    ("undo", {}),
+    ("within", {"work": lambda live: (live.undo(), live.keep(4, 3), live.known)}),
+]
+LIVE_FAULTS = [
+    ("keep", {"at": 5, "value": None}, NoTie, "at", 5),
+    ("keep", {"at": 4, "value": None}, InvalidReadings, "at", 4),
+    ("drop", {"at": 3}, NoTie, "at", 3),
+    ("several", {"pairs": [(0, 1), (1, 1), (0, True), (9, 9)]}, Refused, "at", 2),
+    ("several", {"pairs": None}, Refused, "at", 0),
+    ("within", {"work": lambda live: (live.drop(0), live.keep(9, 9))}, NoTie, "at", 9),
 ]
 
 # Calls that raise, in the order in which the document lists the errors of each.
@@ -110,6 +151,18 @@ FAULTS = [
 ]
 
 
+def live_square():
+    """A live net of SQUARE with some readings."""
+    live = Live(SQUARE)
+    live.several(LIVE_READINGS)
+    return live
+
+
+def told_by(live):
+    """All that a live net tells."""
+    return live.known, live.left, len(live), [live.between(a, b) for a in range(4) for b in range(4)]
+
+
 def frozen(arguments):
     """The same arguments with tuples for lists."""
     return {name: tuple(value) if isinstance(value, list) else value for name, value in arguments.items()}
@@ -125,10 +178,18 @@ class InterfaceTest(unittest.TestCase):
                 self.assertEqual(function.__module__, f"levelties.{name}")
                 self.assertEqual(str(inspect.signature(function)), f"({parameters})")
 
+    def test_classes(self):
+        self.assertEqual([kind.__module__ for kind in METHODS], ["levelties.nets", "levelties.live", "levelties.desk"])
+        for kind, methods in METHODS.items():
+            for name, parameters in methods.items():
+                self.assertEqual(str(inspect.signature(vars(kind)[name])), f"({parameters})")
+
+    def test_attributes(self):
+        for thing, names in ((Net(1), ("posts", "ties")), (Live(ROW), ("net", "known", "left")), (Desk(), ("live",))):
+            for name in names:
+                self.assertIn(name, vars(thing))
+
     def test_net(self):
-        self.assertEqual(Net.__module__, "levelties.nets")
-        for name, parameters in METHODS.items():
-            self.assertEqual(str(inspect.signature(vars(Net)[name])), f"({parameters})")
         self.assertIsInstance(vars(Net)["read"], classmethod)
         self.assertEqual(str(inspect.signature(Net.read)), "(text)")
         for name in ("__len__", "__eq__", "__str__", "__getitem__"):
@@ -181,10 +242,13 @@ class CallTest(unittest.TestCase):
                         lambda: agree(ROW, value), lambda: failing(ROW, value), lambda: heights(ROW, value),
                         lambda: sets(ROW, value), lambda: span(ROW, value, 1, 0, 1), lambda: sinks(ROW, value),
                         lambda: seen_groups(ROW, value), lambda: weak_lot(ROW, value),
+                        lambda: Live(ROW).keep(value, value), lambda: Live(ROW).keep(0, value),
+                        lambda: Live(ROW).drop(value), lambda: Live(ROW).several(value),
+                        lambda: Live(ROW).several([value]), lambda: Desk().say(value),
                         lambda: paper_holds(ROW, 0, value), lambda: is_set(ROW, (1, 2, 3), value)):
                 try:
                     use()
-                except (InvalidNet, InvalidReadings, InvalidGroups):
+                except (InvalidNet, InvalidReadings, InvalidGroups, InvalidCommand, Refused, NoTie):
                     pass
             self.assertEqual(repr(value), text)
         self.assertEqual(str(ROW), "posts 4\ntie 0 1\ntie 1 2\ntie 2 3")
@@ -212,15 +276,70 @@ class CallTest(unittest.TestCase):
         self.assertEqual(again, first)
         self.assertEqual(backwards, first[::-1])
 
+    def test_live_nets_and_desks_in_between(self):
+        first = [function(**arguments) for function, arguments in CALLS]
+        live, desk = live_square(), Desk()
+        desk.say("net posts 4 ; tie 0 1 ; tie 1 2 ; tie 2 3 ; tie 3 0 ; tie 0 2")
+        before = told_by(live)
+        for at, (function, arguments) in enumerate(CALLS):
+            self.assertEqual(desk.say(f"read {at % 5} {at}"), desk.say(f"read {at % 5} {at}"))
+            self.assertEqual(function(**arguments), first[at])
+            self.assertEqual(told_by(live), before)
+        for command, text in (("seen", "1"), ("told", "0"), ("wrong", "2"), ("between 0 1", "open")):
+            self.assertEqual([desk.say(command), desk.say(command)], [text, text])
+
     def test_equal_nets_get_equal_results(self):
         for net in NAMED:
             other = Net.read(str(net))
-            for function in (rings, least_cut, least_cuts, seen, told, needed):
+            for function in (rings, least_cut, least_cuts, seen, told, needed, best_ties):
                 self.assertEqual(function(other), function(net))
             for k in range(4):
                 self.assertEqual(classes(other, k), classes(net, k))
                 self.assertEqual(hidden(other, k), hidden(net, k))
                 self.assertEqual(alike_errors(other, k), alike_errors(net, k))
+
+
+class LiveCallTest(unittest.TestCase):
+
+    def test_by_position_and_by_name_in_any_order(self):
+        for name, arguments in LIVE_CALLS:
+            live = live_square()
+            wanted = (getattr(live, name)(*arguments.values()), told_by(live))
+            for order in itertools.permutations(arguments):
+                live = live_square()
+                result = getattr(live, name)(**{word: arguments[word] for word in order})
+                self.assertEqual((result, told_by(live)), wanted, name)
+                self.assertTrue(all_tuples(result))
+            live = live_square()
+            self.assertEqual((getattr(live, name)(**frozen(arguments)), told_by(live)), wanted)
+        self.assertEqual(told_by(Live(net=SQUARE)), told_by(Live(SQUARE)))
+
+    def test_errors(self):
+        for name, arguments, kind, word, kept in LIVE_FAULTS:
+            live = live_square()
+            before = told_by(live)
+            for order in itertools.permutations(arguments):
+                with self.assertRaises(kind) as caught:
+                    getattr(live, name)(**{word: arguments[word] for word in order})
+                self.assertIs(type(caught.exception), kind)
+                self.assertEqual(getattr(caught.exception, word), kept)
+                self.assertEqual(told_by(live), before)
+
+    def test_arguments_are_not_changed(self):
+        for name, arguments in LIVE_CALLS:
+            before = copy.deepcopy(arguments)
+            getattr(live_square(), name)(**arguments)
+            self.assertEqual(arguments, before)
+        self.assertEqual(SQUARE, Net(4, [(0, 1), (1, 2), (2, 3), (3, 0), (0, 2)]))
+
+    def test_no_result_is_none(self):
+        self.assertIsNone(live_square().drop(0))
+
+    def test_whether_is_a_bool(self):
+        live = live_square()
+        for result in (live.keep(3, -6), live.keep(4, 8), *live.several([(4, 1), (4, 2)]), live.undo(),
+                       Live(ONE).undo()):
+            self.assertIs(type(result), bool)
 
 
 class ResultTest(unittest.TestCase):
@@ -236,6 +355,10 @@ class ResultTest(unittest.TestCase):
         self.assertIs(agree(TRIPLE, [3, 3, 3]), False)
         self.assertIs(SQUARE == FULL, False)
         self.assertIs(SQUARE == Net(4, SQUARE.ties), True)
+        for net in NAMED:
+            self.assertEqual((no_worse(net, net), alike(net, net)), (True, True))
+            self.assertIs(type(no_worse(net, net)), bool)
+            self.assertIs(type(alike(net, net)), bool)
         for value in any_values():
             self.assertIn(paper_holds(ONE, 0, value), (True, False))
             self.assertIs(type(paper_holds(ONE, 0, value)), bool)
@@ -246,7 +369,7 @@ class ResultTest(unittest.TestCase):
             groups = list(range(len(net)))
             for number in (least_cut(net), seen(net), told(net), len(net), *heights(net, [0] * len(net)),
                            fewest_wrong(net, groups), seen_groups(net, groups), told_groups(net, groups),
-                           *span(net, groups, 99, 0, 1)):
+                           *span(net, groups, 99, 0, 1), *worth(net, 0, 1)):
                 self.assertIs(type(number), int)
 
 
