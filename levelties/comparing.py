@@ -85,8 +85,9 @@ def _decided(views, edge, post, row):
     for inside, (many, lot) in views.items():
         to_lot = sum([row.get(other, 0) for other in inside])
         to_rest = sum([row.get(other, 0) for other in edge if other not in inside])
+        with_post = (*inside, post)
         found[inside] = (many + to_lot, lot)
-        found[(*inside, post)] = (many + to_rest, (*lot, post))
+        found[with_post] = (many + to_rest, (*lot, post))
     return found
 
 

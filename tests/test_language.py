@@ -54,6 +54,12 @@ def own_functions(tree):
     return [node.name for node in ast.walk(tree) if isinstance(node, ast.FunctionDef)]
 
 
+def has_star(tree):
+    """Whether there is a star, or two for a dict, anywhere in a piece of code."""
+    nodes = list(ast.walk(tree))
+    return any(isinstance(node, ast.Starred) or isinstance(node, ast.Dict) and None in node.keys for node in nodes)
+
+
 class LanguageTest(unittest.TestCase):
 
     def test_folder(self):
@@ -80,6 +86,19 @@ class LanguageTest(unittest.TestCase):
                 self.assertNotIsInstance(node, BARRED_NODES, (name, getattr(node, "lineno", 0)))
                 if isinstance(node, ast.Constant):
                     self.assertNotIsInstance(node.value, (float, complex), name)
+
+    def test_no_star_in_an_index(self):
+        for name, tree in parsed():
+            for node in ast.walk(tree):
+                if isinstance(node, ast.Subscript):
+                    self.assertFalse(has_star(node.slice), (name, node.lineno))
+
+    def test_stars_are_found(self):
+        for text in ("rows[(*xs, 1)]", "rows[*xs, 1]", "rows[1][(2, (*xs, 1))]", "rows[len([*xs, 1])]",
+                     "rows[(*xs,):]", "rows[len({**xs})]"):
+            self.assertTrue(has_star(ast.parse(text, mode="eval").body.slice), text)
+        for text in ("rows[xs]", "rows[2 * k]", "rows[2 ** k, 1]", "rows[{1: 2}[k]]"):
+            self.assertFalse(has_star(ast.parse(text, mode="eval").body.slice), text)
 
     def test_imports(self):
         known = {f"levelties.{name[:-3]}": [node.name for node in tree.body if hasattr(node, "name")]
